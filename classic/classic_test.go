@@ -425,7 +425,7 @@ func TestOfOneIdentifier(t *testing.T) {
 
 func TestTheShorterIDAheadTells(t *testing.T) {
 	for id := range uint32(2047) {
-		longer := api.Frame{Kind: api.Classic, ID: id<<18 | 1<<18 - 1, Ext: true, RTR: true}
+		longer := api.Frame{Kind: api.Classic, ID: (id+1)<<18 - 1, Ext: true, RTR: true}
 		wins(t, longer, api.Frame{Kind: api.Classic, ID: id + 1})
 		wins(t, api.Frame{Kind: api.Classic, ID: id, RTR: true}, api.Frame{Kind: api.Classic, ID: (id + 1) << 18, Ext: true})
 	}

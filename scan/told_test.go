@@ -315,7 +315,7 @@ func shorts() []api.Frame {
 		for n := range 9 {
 			l = append(l, api.Frame{Kind: api.Classic, ID: id, Data: mixed(next, n)}, api.Frame{Kind: api.Classic, ID: id<<18 | next()>>14, Ext: true, Data: mixed(next, n)})
 		}
-		l = append(l, api.Frame{Kind: api.Classic, ID: id, RTR: true}, api.Frame{Kind: api.Classic, ID: id << 18, Ext: true, RTR: true}, api.Frame{Kind: api.Classic, ID: id<<18 | 1<<18 - 1, Ext: true, RTR: true})
+		l = append(l, api.Frame{Kind: api.Classic, ID: id, RTR: true}, api.Frame{Kind: api.Classic, ID: id << 18, Ext: true, RTR: true}, api.Frame{Kind: api.Classic, ID: (id+1)<<18 - 1, Ext: true, RTR: true})
 		for _, n := range sizes {
 			l = append(l, api.Frame{Kind: api.FD, ID: id, BRS: next()%2 == 0, ESI: next()%2 == 0, Data: mixed(next, n)})
 		}
