@@ -943,6 +943,10 @@ func TestAllShortRows(t *testing.T) {
 			for i := range size {
 				x.take(byte(row >> i & 1))
 			}
+			for i := range size {
+				x.restart()
+				x.take(byte(row >> i & 1))
+			}
 		}
 	}
 }
